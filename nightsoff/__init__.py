@@ -1,0 +1,1 @@
+"""Nightsoff: what people tell about the nights they kept."""

@@ -1,0 +1,103 @@
+"""Plain searches over small houses, and what the tests share."""
+
+import itertools
+import unittest
+
+from nightsoff.errors import NightsError
+from nightsoff.houses import House
+from nightsoff.wants import Wants
+
+
+class Case(unittest.TestCase):
+    def refused(self, wanted, call, *args, **named):
+        """The call raises an error of the very class and fields of `wanted`."""
+        with self.assertRaises(NightsError) as caught:
+            call(*args, **named)
+        self.assertIs(type(caught.exception), type(wanted))
+        self.assertEqual(vars(caught.exception), vars(wanted))
+
+
+class Numbers:
+    """Numbers that look random and are the same in every run."""
+
+    def __init__(self, seed):
+        self.state = seed
+
+    def below(self, bound):
+        self.state = (self.state * 6364136223846793005 + 1442695040888963407) % 2 ** 64
+        return (self.state >> 33) % bound
+
+    def between(self, low, high):
+        return low + self.below(high - low + 1)
+
+    def several(self, count, low, high):
+        return [self.between(low, high) for _ in range(count)]
+
+
+def some_houses(count, seed, nights=4, people=3, want=2, rest=3):
+    """Small houses, those without nights and without people among them."""
+    numbers = Numbers(seed)
+    found = [House(Wants([]), []), House(Wants([]), [1, 1], rest=0), House(Wants([1, 0]), [])]
+    while len(found) < count:
+        many = numbers.between(max(1, nights - 2), nights)
+        wants = Wants(numbers.several(many, 0, want))
+        comings = numbers.several(numbers.between(max(1, people - 2), people), 1, many + 1)
+        if numbers.below(3) > 0:
+            comings = [max(1, coming - 2) for coming in comings]
+        found.append(House(wants, comings, rest=numbers.between(0, rest)))
+    return found
+
+
+def large_house(rest=2):
+    """A house of 60 nights and 30 people."""
+    wants = Wants([(7 * night) % 13 for night in range(60)])
+    return House(wants, [1 + (11 * person) % 61 for person in range(30)], rest=rest)
+
+
+def subsets(people):
+    """All lists of some of these people."""
+    return [list(chosen) for size in range(len(people) + 1)
+            for chosen in itertools.combinations(people, size)]
+
+
+def all_plans(house, short=False):
+    """The rows of every plan that fits the house, or fits it short."""
+    def may_watch(person, rows):
+        night = len(rows) + 1
+        rested = all(person not in row for row in rows[len(rows) - min(len(rows), house.rest):])
+        return house.comings[person] <= night and rested
+
+    plans = [[]]
+    for want in house.wants.numbers:
+        plans = [rows + [row] for rows in plans
+                 for row in subsets([p for p in range(len(house.comings)) if may_watch(p, rows)])
+                 if len(row) == want or (short and len(row) < want)]
+    return plans
+
+
+def counts_in(rows, people):
+    return tuple(sum(person in row for row in rows) for person in range(people))
+
+
+def all_counts(house, short=False):
+    """The different counts of all plans that fit, as a sorted list of tuples."""
+    return sorted({counts_in(rows, house.people) for rows in all_plans(house, short)})
+
+
+def all_covers(house):
+    """The ends of every cover that fits the house."""
+    covers = [[]]
+    for night in range(1, len(house.wants.numbers) + 1):
+        covers += [ends + [night] for ends in covers
+                   if not ends or night - ends[-1] > house.rest]
+    return covers
+
+
+def plain_outside(house, ends):
+    """The nights outside of a cover, straight from point 17."""
+    inside = {night for end in ends for night in range(end - house.rest, end + 1)}
+    return [night for night in range(1, house.nights + 1) if night not in inside]
+
+
+def plain_ends_from(house, ends, person):
+    return sum(end >= house.comings[person] for end in ends)

@@ -1,0 +1,68 @@
+"""The examples of the interface, as they stand in the document."""
+
+import unittest
+
+from nightsoff import errors
+
+EXAMPLES = '''
+>>> from nightsoff.wants import Wants
+>>> run = Wants([2, 1]) + 2 * Wants.of(0, 3)
+>>> [run.numbers, abs(run), run[4], (-run << 4).numbers, (run >> 1).numbers]
+[(2, 1, 0, 3, 0, 3), 9, 3, (1, 2), (0, 2, 1, 0, 3, 0, 3)]
+
+>>> from nightsoff.tellings import Telling
+>>> told = Telling([3, 1, 0])
+>>> [told.no_steeper(Telling([0, 4, 0])), told ^ Telling([1, 2, 1]), told.moved(0, 2).entries, told < Telling([3, 2, 0])]
+[True, 4, (2, 1, 1), True]
+
+>>> from nightsoff.wants import Wants
+>>> from nightsoff.houses import House
+>>> from nightsoff.plans import Plan, plan_faults
+>>> house = House(Wants([2, 1, 2]), [1, 1, 2], rest=1)
+>>> plan_faults(house, Plan([[0, 1], [1], [0, 2]]))
+[('rest', 2, 1, 1)]
+
+>>> from nightsoff.wants import Wants
+>>> from nightsoff.houses import House
+>>> from nightsoff.plans import Plan, counts_of
+>>> counts_of(House(Wants([2, 1, 2]), [1, 1, 2]), Plan([[0, 1], [2], [0, 1]]))
+[2, 2, 1]
+
+>>> from nightsoff.wants import Wants
+>>> from nightsoff.houses import House
+>>> from nightsoff.drafts import Draft
+>>> draft = Draft(House(Wants([2, 1, 2]), [1, 1, 2], rest=1))
+>>> draft.put(1, 1)
+>>> draft.put(1, 0)
+>>> [draft[1], draft.placed, draft.vacant]
+[(0, 1), 2, 3]
+
+>>> from nightsoff.wants import Wants
+>>> from nightsoff.houses import House
+>>> from nightsoff.drafts import Draft
+>>> draft = Draft(House(Wants([2, 1, 2]), [1, 1, 2], rest=1))
+>>> draft.put(3, 1)
+>>> draft.put(2, 1)
+raises TooSoon(2, 1, 3)
+'''
+
+
+def result_of(lines):
+    """Run the lines of an example and write its last line as the document does."""
+    names = {}
+    for line in lines[:-1]:
+        exec(line, names)
+    try:
+        return repr(eval(lines[-1], names))
+    except errors.NightsError as error:
+        fields = ", ".join(repr(field) for field in vars(error).values())
+        return f"raises {type(error).__name__}({fields})"
+
+
+class Examples(unittest.TestCase):
+    def test_examples(self):
+        for example in EXAMPLES.strip().split("\n\n"):
+            *lines, wanted = example.split("\n")
+            with self.subTest(example):
+                self.assertTrue(all(line.startswith(">>> ") for line in lines))
+                self.assertEqual(result_of([line[4:] for line in lines]), wanted)

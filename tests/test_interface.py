@@ -1,0 +1,86 @@
+"""The names, arguments and kinds of the interface, module by module."""
+
+import importlib
+import inspect
+import unittest
+
+FUNCTIONS = {
+    "plans.plan_faults": "(house, plan, *, short=False)",
+    "plans.counts_of": "(house, plan)",
+    "plans.walk_plan": "(house, plan, *, short=False)",
+    "firsts.first_choice": "(house, people)",
+    "firsts.room_left": "(house, people)",
+    "firsts.most_of": "(house, people)",
+    "firsts.growth": "(house, people, person)",
+}
+
+CLASSES = {
+    "wants.Wants": {
+        "__init__": "(self, numbers)", "of": "(*numbers, times=1)",
+        "__len__": None, "__iter__": None, "__getitem__": None, "__add__": None,
+        "__mul__": None, "__rmul__": None, "__lshift__": None, "__rshift__": None,
+        "__neg__": None, "__abs__": None,
+    },
+    "tellings.Telling": {
+        "__init__": "(self, entries)", "no_steeper": "(self, other)",
+        "moved": "(self, giver, taker, count=1)",
+        "__len__": None, "__iter__": None, "__getitem__": None, "__eq__": None,
+        "__lt__": None, "__add__": None, "__mul__": None, "__rmul__": None,
+        "__xor__": None, "__abs__": None,
+    },
+    "houses.House": {
+        "__init__": "(self, wants, comings, *, rest=1)",
+        "all_there": "(wants, people, *, rest=1)",
+        "changed": "(self, *, wants=None, comings=None, rest=None)",
+        "here": "(self, night)", "stretch": "(self, end)",
+        "nights": property, "people": property, "whole": property,
+    },
+    "plans.Plan": {
+        "__init__": "(self, rows)", "nights_of": "(self, person)", "__len__": None,
+        "__iter__": None, "__getitem__": None, "__neg__": None, "__add__": None,
+    },
+    "drafts.Draft": {
+        "__init__": "(self, house)", "put": "(self, night, person)",
+        "take": "(self, night, person)", "as_plan": "(self)", "__len__": None,
+        "__iter__": None, "__getitem__": None, "__setitem__": None,
+        "placed": property, "vacant": property,
+    },
+}
+
+
+def found_at(path):
+    """Return what the interface lists under `file.name`, and its module's name."""
+    file, name = path.split(".")
+    module = importlib.import_module("nightsoff." + file)
+    return getattr(module, name), module.__name__
+
+
+class Interface(unittest.TestCase):
+    def test_functions(self):
+        for path, wanted in FUNCTIONS.items():
+            with self.subTest(path):
+                found, module = found_at(path)
+                self.assertTrue(inspect.isfunction(found))
+                self.assertEqual(found.__module__, module)
+                self.assertEqual(str(inspect.signature(found)), wanted)
+
+    def test_classes(self):
+        for path, methods in CLASSES.items():
+            found, module = found_at(path)
+            self.assertTrue(inspect.isclass(found))
+            self.assertEqual(found.__module__, module)
+            for name, wanted in methods.items():
+                with self.subTest(f"{path}.{name}"):
+                    self.assertIn(name, vars(found))
+                    if wanted is property:
+                        self.assertIsInstance(vars(found)[name], property)
+                    elif wanted is not None:
+                        self.assertEqual(str(inspect.signature(getattr(found, name))), wanted)
+
+    def test_class_methods(self):
+        for path in ("wants.Wants.of", "houses.House.all_there"):
+            file, name = path.rsplit(".", 1)
+            self.assertIsInstance(vars(found_at(file)[0])[name], classmethod)
+
+    def test_walks_are_generators(self):
+        self.assertTrue(inspect.isgeneratorfunction(found_at("plans.walk_plan")[0]))
