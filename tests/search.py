@@ -101,3 +101,38 @@ def plain_outside(house, ends):
 
 def plain_ends_from(house, ends, person):
     return sum(end >= house.comings[person] for end in ends)
+
+
+def plain_price(house, ends, prices):
+    total = sum(house.wants[night] for night in plain_outside(house, ends))
+    return total + sum(prices[person][plain_ends_from(house, ends, person)]
+                       for person in range(house.people))
+
+
+def plain_cheapest(house, prices):
+    """The least price, and the cover that point 18 picks among the cheapest."""
+    least = min(plain_price(house, ends, prices) for ends in all_covers(house))
+    left = [ends for ends in all_covers(house) if plain_price(house, ends, prices) == least]
+    chosen = []
+    for night in range(house.nights, 0, -1):
+        if any(end - house.rest <= night for end in chosen):
+            continue
+        stay = [ends for ends in left if night in plain_outside(house, ends)]
+        if stay:
+            left = stay
+        else:
+            chosen.insert(0, night)
+            left = [ends for ends in left if night in ends]
+    assert left == [chosen]
+    return least, chosen
+
+
+def plain_excess(house, ends, told):
+    over = sum(max(0, number - plain_ends_from(house, ends, person))
+               for person, number in enumerate(told))
+    return over - sum(house.wants[night] for night in plain_outside(house, ends))
+
+
+def all_told(house):
+    """All lists of told numbers up to one night more than there are."""
+    return map(list, itertools.product(range(house.nights + 2), repeat=house.people))

@@ -44,6 +44,30 @@ EXAMPLES = '''
 >>> draft.put(3, 1)
 >>> draft.put(2, 1)
 raises TooSoon(2, 1, 3)
+
+>>> from nightsoff.wants import Wants
+>>> from nightsoff.houses import House
+>>> from nightsoff.firsts import first_choice
+>>> from nightsoff.cheapest import cover_of
+>>> house = House.all_there(Wants([1, 1, 1, 1]), 3, rest=2)
+>>> [first_choice(house, [0]), first_choice(house, [0, 2]), list(cover_of(house, [0, 2]))]
+[[1, 0, 0, 1], [1, 1, 0, 1], [3]]
+
+>>> from nightsoff.wants import Wants
+>>> from nightsoff.houses import House
+>>> from nightsoff.settle import settle
+>>> done = settle(House.all_there(Wants([1, 1, 1, 1]), 3, rest=2), [3, 1, 0])
+>>> [done.plan.rows, done.strangers, done.unkept, done.missing, list(done.cover)]
+[((0,), (1,), (), (0,)), (0, 0, 1, 0), (1, 0, 0), 1, [3]]
+
+>>> from nightsoff.wants import Wants
+>>> from nightsoff.houses import House
+>>> from nightsoff.judge import judge
+>>> house = House(Wants([2, 1, 2]), [1, 1, 2], rest=1)
+>>> yes = judge(house, [2, 2, 1])
+>>> no = judge(house, [2, 1, 2])
+>>> [yes.word, yes.plan.rows, no.word, list(no.cover)]
+['true', ((0, 1), (2,), (0, 1)), 'stretches', [1, 3]]
 '''
 
 

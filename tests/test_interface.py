@@ -12,6 +12,25 @@ FUNCTIONS = {
     "firsts.room_left": "(house, people)",
     "firsts.most_of": "(house, people)",
     "firsts.growth": "(house, people, person)",
+    "covers.most_stretches": "(house)",
+    "covers.cover_fault": "(house, cover)",
+    "covers.outside_nights": "(house, cover)",
+    "covers.stretches_of": "(house, cover)",
+    "covers.ends_from": "(house, cover, person)",
+    "covers.bound_of": "(house, cover, people)",
+    "cheapest.price_of": "(house, cover, prices)",
+    "cheapest.cheapest": "(house, prices)",
+    "cheapest.cover_of": "(house, people)",
+    "orders.one_after_another": "(house, order)",
+    "orders.order_counts": "(house, order)",
+    "settle.settle": "(house, told)",
+    "judge.judge": "(house, told)",
+    "judge.can_be_true": "(house, told)",
+    "judge.excess_of": "(house, cover, told)",
+    "judge.greatest_excess": "(house, told)",
+    "sets.refusing_set": "(house, told)",
+    "sets.set_by_set": "(house, told)",
+    "leavers.judge_leaving": "(house, told)",
 }
 
 CLASSES = {
@@ -45,6 +64,15 @@ CLASSES = {
         "__iter__": None, "__getitem__": None, "__setitem__": None,
         "placed": property, "vacant": property,
     },
+    "covers.Cover": {
+        "__init__": "(self, ends)", "__len__": None, "__iter__": None, "__contains__": None,
+    },
+    "settle.Settlement": {},
+    "judge.Verdict": {"holds": property},
+    "leavers.LeavingHouse": {
+        "__init__": "(self, wants, leavings, *, rest=1)", "mirror": "(self)",
+    },
+    "leavers.LeavingVerdict": {},
 }
 
 
