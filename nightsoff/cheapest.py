@@ -16,8 +16,13 @@ def price_of(house, cover, prices):
 def cheapest(house, prices):
     """Return the least price of all covers that fit, and the cheapest cover."""
     _check_prices(house, prices)
+    return cheapest_for(house, list(house.wants), prices)
+
+
+def cheapest_for(house, wants, prices):
+    """Do the same with other wants of the nights, which may be any numbers."""
     sums = _sums_by_coming(house, prices)
-    least, stays = _least_prices(house, sums)
+    least, stays = _least_prices(house, wants, sums)
     # Who comes after the last night has a coming behind all ends.
     never = sums[house.nights + 1][0] - sums[house.nights][0]
     return (never + least[house.nights][0], _walk_back(house, stays))
@@ -31,6 +36,18 @@ def cover_of(house, people):
               for person in range(house.people)]
     _, cover = cheapest(house, prices)
     return cover
+
+
+def low_prices(house, lows):
+    """Make the prices -max(0, low - w) for w ends."""
+    counts = list(range(most_stretches(house) + 1))
+    return [[-max(0, low - count) for count in counts] for low in lows]
+
+
+def high_prices(house, highs):
+    """Make the prices min(high, w) for w ends."""
+    counts = list(range(most_stretches(house) + 1))
+    return [[min(high, count) for count in counts] for high in highs]
 
 
 def _check_prices(house, prices):
@@ -56,7 +73,7 @@ def _sums_by_coming(house, prices):
     return sums
 
 
-def _least_prices(house, sums):
+def _least_prices(house, wants, sums):
     """Decide the nights from night 1 on, for each number w of later ends.
 
     `least[k][w]` is the least price of the nights up to k and of the persons
@@ -65,7 +82,7 @@ def _least_prices(house, sums):
     """
     least = [[0] * len(sums[0])]
     stays = [[]]
-    for night, want in enumerate(house.wants, start=1):
+    for night, want in enumerate(wants, start=1):
         before = max(0, night - house.rest - 1)
         outside = [want + now - then + below for now, then, below
                    in zip(sums[night], sums[night - 1], least[night - 1])]

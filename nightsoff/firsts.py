@@ -7,11 +7,17 @@ from nightsoff.errors import NamedTwice
 def first_choice(house, people):
     """List how many of these people first choice takes on each night."""
     check_people(house, people)
+    here = [len([person for person in people if house.comings[person] <= night])
+            for night in range(1, house.nights + 1)]
+    return choose_first(house.wants, house.rest, here)
+
+
+def choose_first(wants, rest, here):
+    """Do the same, given how many of these people have come by each night."""
     taken = []
-    for night, want in enumerate(house.wants, start=1):
-        here = [person for person in people if house.comings[person] <= night]
-        resting = sum(taken[max(0, night - 1 - house.rest):])
-        taken.append(min(want, len(here) - resting))
+    for want, count in zip(wants, here):
+        resting = sum(taken[max(0, len(taken) - rest):])
+        taken.append(min(want, count - resting))
     return taken
 
 

@@ -1,7 +1,7 @@
 """Verdicts on told numbers, and the excess of covers (points 23 and 24)."""
 
-from nightsoff.cheapest import cheapest
-from nightsoff.covers import ends_from, most_stretches, outside_wants
+from nightsoff.cheapest import cheapest, low_prices
+from nightsoff.covers import ends_from, outside_wants
 from nightsoff.settle import settle
 from nightsoff.tellings import told_numbers
 
@@ -47,7 +47,5 @@ def excess_of(house, cover, told):
 def greatest_excess(house, told):
     """Return the greatest excess of all covers, and a cover that has it."""
     numbers = told_numbers(house, told)
-    counts = list(range(most_stretches(house) + 1))
-    price, cover = cheapest(house, [[-max(0, number - count) for count in counts]
-                                    for number in numbers])
+    price, cover = cheapest(house, low_prices(house, numbers))
     return (-price, cover)

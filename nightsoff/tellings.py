@@ -94,3 +94,10 @@ def told_numbers(house, told):
         raise WrongLength(len(told), house.people)
     check_numbers(told, LIMIT)
     return list(told)
+
+
+def greatest_first(numbers):
+    """List the persons, those with the greatest numbers first."""
+    # Negative numbers, so that equal people stay in ascending order.
+    return [person for _, person in sorted([(-number, person)
+                                            for person, number in enumerate(numbers)])]

@@ -3,6 +3,7 @@
 import itertools
 import unittest
 
+from nightsoff.bounds import Bounds
 from nightsoff.errors import NightsError
 from nightsoff.houses import House
 from nightsoff.wants import Wants
@@ -131,6 +132,46 @@ def plain_excess(house, ends, told):
     over = sum(max(0, number - plain_ends_from(house, ends, person))
                for person, number in enumerate(told))
     return over - sum(house.wants[night] for night in plain_outside(house, ends))
+
+
+def in_bounds(numbers, bounds):
+    return all(low <= number <= high for low, number, high in zip(bounds.lows, numbers, bounds.highs))
+
+
+def all_worlds(house, bounds):
+    """The numbers that lie in the bounds and can be true, as a sorted list of tuples."""
+    return [counts for counts in all_counts(house) if in_bounds(counts, bounds)]
+
+
+def some_bounds(house, count, seed):
+    """Bounds for the people of the house, tight and wide ones, a few of them crossed."""
+    numbers = Numbers(seed)
+    found = [Bounds([0] * house.people, [0] * house.people), Bounds.up_to(house.people, house.nights),
+             Bounds.up_to(house.people, 10 ** 30)]
+    while len(found) < count:
+        lows = numbers.several(house.people, 0, 2)
+        found.append(Bounds(lows, [max(0, low + numbers.between(-1 + numbers.below(2), 3)) for low in lows]))
+    return found
+
+
+def falling_rows(total, most=None):
+    """All falling rows with that sum and no number above `most`."""
+    if total == 0:
+        return [[]]
+    return [[number] + row for number in range(1, min(total, total if most is None else most) + 1)
+            for row in falling_rows(total - number, number)]
+
+
+def first_sums(row, length):
+    """The sums of the first 0, 1 .. numbers of the row; behind its end it has zeros."""
+    return [sum(row[:count]) for count in range(length + 1)]
+
+
+def row_lets(row, numbers):
+    """Point 38, straight from its words."""
+    falling = sorted(numbers, reverse=True)
+    return sum(falling) == sum(row) and all(
+        one <= two for one, two in zip(first_sums(falling, len(falling)), first_sums(row, len(falling))))
 
 
 def all_told(house):

@@ -1,22 +1,30 @@
-"""A house of 60 nights and 30 people is answered without delay."""
+"""Large houses, within the conditions of use, are answered without delay."""
 
 import time
 import unittest
 
+from nightsoff.alike import both_rows, either_rows, lets_all, parting
+from nightsoff.answers import answer, form_least, form_most
+from nightsoff.bounds import Bounds
 from nightsoff.cheapest import cheapest, cover_of, price_of
 from nightsoff.covers import (
     Cover, bound_of, cover_fault, ends_from, most_stretches, outside_nights, stretches_of)
 from nightsoff.drafts import Draft
 from nightsoff.firsts import first_choice, growth, most_of, room_left
+from nightsoff.forms import Form
 from nightsoff.houses import House
 from nightsoff.judge import can_be_true, excess_of, greatest_excess, judge
 from nightsoff.leavers import LeavingHouse, judge_leaving
 from nightsoff.orders import one_after_another, order_counts
 from nightsoff.plans import counts_of, plan_faults, walk_plan
+from nightsoff.rows import first_row, plain_row, row_allows, row_witness, turned
 from nightsoff.sets import refusing_set
 from nightsoff.settle import settle
-from nightsoff.tellings import Telling
+from nightsoff.slips import one_slip, two_slips
+from nightsoff.spans import Span
+from nightsoff.tellings import LIMIT, Telling
 from nightsoff.wants import Wants
+from nightsoff.worlds import find_world, group_least, group_most, has_world, raised
 
 EVERYBODY = list(range(30))
 
@@ -72,14 +80,97 @@ def questions(house):
     }
 
 
+def watched_house(nights, comings, want, rest):
+    """A house that can be watched and wants as many people as that allows."""
+    house = House(Wants([want] * nights), comings, rest=rest)
+    return house.changed(wants=Wants(first_choice(house, list(range(house.people)))))
+
+
+def half_told_questions(house):
+    """Every function of half-told numbers, by name."""
+    people = list(range(house.people))
+    told = order_counts(house, people)
+    bounds = Bounds([number // 2 for number in told], [LIMIT] * house.people)
+    form = Form([7 * person % 5 - 2 for person in people])
+    return {
+        "has_world": lambda: has_world(house, bounds),
+        "find_world": lambda: find_world(house, bounds),
+        "raised": lambda: raised(house, bounds, people[::-1]),
+        "group_most": lambda: group_most(house, bounds, people[::2]),
+        "group_least": lambda: group_least(house, bounds, people[::2]),
+        "form_most": lambda: form_most(house, bounds, form),
+        "form_least": lambda: form_least(house, bounds, form),
+        "answer": lambda: answer(house, bounds, form, 0),
+    }
+
+
+def slip_questions(house):
+    told = order_counts(house, list(range(house.people)))
+    return {
+        "one_slip": lambda: one_slip(house, [told[0] + 1] + told[1:]),
+        "two_slips": lambda: two_slips(house, told),
+    }
+
+
+def row_questions(run, rest):
+    row = plain_row(run, rest)
+    numbers = Telling([min(sum(row), LIMIT)] + [0] * 29)
+    return {
+        "first_row": lambda: first_row(run, rest),
+        "plain_row": lambda: plain_row(run, rest),
+        "turned": lambda: turned(row),
+        "row_allows": lambda: row_allows(turned(row), numbers),
+        "row_witness": lambda: row_witness(turned(row), numbers),
+        "lets_all": lambda: lets_all(row, turned(row)),
+        "parting": lambda: parting(turned(row), row),
+        "both_rows": lambda: both_rows(row, turned(row)),
+        "either_rows": lambda: either_rows(row, turned(row)),
+    }
+
+
+def span_questions(run, rest):
+    span = Span(run, rest)
+    return {
+        "Span": lambda: Span(run, rest),
+        "empty": lambda: Span.empty(rest),
+        "held": lambda: span.held(rest, rest, 3),
+        "joined": lambda: span.joined(span),
+        "row": lambda: span.row(),
+    }
+
+
 class Delay(unittest.TestCase):
-    def test_without_delay(self):
+    def quick(self, questions, **said):
+        for name, ask in questions.items():
+            with self.subTest(name, **said):
+                before = time.process_time()
+                ask()
+                self.assertLess(time.process_time() - before, 1)
+
+    def test_60_nights_and_30_people(self):
         for rest in (0, 1, 2, 7, 60):
             many = max(1, 30 // (rest + 1))
             wants = Wants([many - night % 2 for night in range(60)])
             house = House(wants, [1 + person // 8 * 5 for person in range(30)], rest=rest)
-            for name, ask in questions(house).items():
-                with self.subTest(name, rest=rest):
-                    before = time.process_time()
-                    ask()
-                    self.assertLess(time.process_time() - before, 1)
+            self.quick(questions(house), rest=rest)
+
+    def test_24_nights_and_10_people(self):
+        for rest in (0, 1, 2, 5, 24, 60):
+            for want in (2, 30):
+                house = watched_house(24, [1 + person // 3 * 4 for person in range(10)], want, rest)
+                self.quick(half_told_questions(house), want=want, rest=rest)
+
+    def test_16_nights_and_6_people(self):
+        for rest in (0, 1, 2, 60):
+            for want in (2, 30):
+                house = watched_house(16, [1, 1, 1, 1, 4, 9], want, rest)
+                self.quick(slip_questions(house), want=want, rest=rest)
+
+    def test_rows_of_60_nights(self):
+        for want in (1, 7, 30):
+            for rest in (0, 1, 5, 60):
+                self.quick(row_questions(Wants([want] * 60), rest), want=want, rest=rest)
+
+    def test_spans_of_24_nights(self):
+        for rest in range(4):
+            self.quick(span_questions(Wants([30 - night for night in range(24)]), rest), rest=rest)

@@ -68,6 +68,40 @@ raises TooSoon(2, 1, 3)
 >>> no = judge(house, [2, 1, 2])
 >>> [yes.word, yes.plan.rows, no.word, list(no.cover)]
 ['true', ((0, 1), (2,), (0, 1)), 'stretches', [1, 3]]
+
+>>> from nightsoff.wants import Wants
+>>> from nightsoff.houses import House
+>>> from nightsoff.bounds import Bounds
+>>> from nightsoff.worlds import group_most
+>>> number, world, cover = group_most(House.all_there(Wants([1, 1, 1, 1]), 3, rest=2), Bounds.up_to(3, 4), [1, 0])
+>>> [number, world, list(cover)]
+[3, [2, 1, 1], [3]]
+
+>>> from nightsoff.wants import Wants
+>>> from nightsoff.houses import House
+>>> from nightsoff.bounds import Bounds
+>>> from nightsoff.forms import Form
+>>> from nightsoff.answers import answer
+>>> house = House.all_there(Wants([1, 1, 1, 1]), 3, rest=2)
+>>> reply = answer(house, Bounds.up_to(3, 4), 2 * Form.of(3, 0) + Form.of(3, 1), 5)
+>>> [reply.word, reply.least.number, reply.least.world, reply.most.number, reply.most.world]
+['open', 3, [1, 1, 2], 5, [2, 1, 1]]
+
+>>> from nightsoff.wants import Wants
+>>> from nightsoff.rows import first_row, plain_row, row_allows, row_witness
+>>> run = Wants([1, 1, 1, 1])
+>>> [first_row(run, 2), plain_row(run, 2), row_allows([2, 1, 1], [1, 2, 1]), row_witness([2, 1, 1], [2, 0, 2])]
+[[2, 1, 1], [3, 1], True, ('most', 2, [0, 2])]
+
+>>> from nightsoff.wants import Wants
+>>> from nightsoff.spans import Span
+>>> half = Span(Wants([1, 1]), 2)
+>>> [half.held(1, 0, 0), half.held(0, 1, 1), half.held(0, 2, 1), half.held(0, 0, 1), half.joined(half).row()]
+[1, 2, 1, None, [3, 1]]
+
+>>> from nightsoff.alike import lets_all, parting, both_rows, either_rows
+>>> [lets_all([2, 2], [3, 1]), parting([3, 1], [2, 2]), both_rows([3, 3], [4, 1, 1]), either_rows([3, 3], [4, 1, 1])]
+[True, [2, 2], [4, 2], [3, 2, 1]]
 '''
 
 

@@ -31,6 +31,25 @@ FUNCTIONS = {
     "sets.refusing_set": "(house, told)",
     "sets.set_by_set": "(house, told)",
     "leavers.judge_leaving": "(house, told)",
+    "worlds.has_world": "(house, bounds)",
+    "worlds.find_world": "(house, bounds)",
+    "worlds.raised": "(house, bounds, order)",
+    "worlds.group_most": "(house, bounds, people)",
+    "worlds.group_least": "(house, bounds, people)",
+    "answers.form_most": "(house, bounds, form)",
+    "answers.form_least": "(house, bounds, form)",
+    "answers.answer": "(house, bounds, form, number)",
+    "slips.one_slip": "(house, told)",
+    "slips.two_slips": "(house, told)",
+    "rows.turned": "(row)",
+    "rows.first_row": "(run, rest)",
+    "rows.plain_row": "(run, rest)",
+    "rows.row_allows": "(row, numbers)",
+    "rows.row_witness": "(row, numbers)",
+    "alike.lets_all": "(row, other)",
+    "alike.parting": "(row, other)",
+    "alike.both_rows": "(row, other)",
+    "alike.either_rows": "(row, other)",
 }
 
 CLASSES = {
@@ -73,6 +92,22 @@ CLASSES = {
         "__init__": "(self, wants, leavings, *, rest=1)", "mirror": "(self)",
     },
     "leavers.LeavingVerdict": {},
+    "bounds.Bounds": {
+        "__init__": "(self, lows, highs)", "exact": "(numbers)", "up_to": "(people, most)",
+        "crossed": "(self)", "pinned": "(self, person, low, high)",
+        "__len__": None, "__and__": None, "__or__": None, "__contains__": None,
+    },
+    "forms.Form": {
+        "__init__": "(self, weights)", "of": "(people, *persons)", "order": "(self)",
+        "__call__": "(self, told)", "__len__": None, "__add__": None, "__sub__": None,
+        "__mul__": None, "__rmul__": None, "__neg__": None,
+    },
+    "answers.Extreme": {},
+    "answers.Answer": {},
+    "spans.Span": {
+        "__init__": "(self, run, rest)", "empty": "(rest)", "held": "(self, enter, leave, count)",
+        "joined": "(self, other)", "row": "(self)",
+    },
 }
 
 
@@ -106,7 +141,8 @@ class Interface(unittest.TestCase):
                         self.assertEqual(str(inspect.signature(getattr(found, name))), wanted)
 
     def test_class_methods(self):
-        for path in ("wants.Wants.of", "houses.House.all_there"):
+        for path in ("wants.Wants.of", "houses.House.all_there", "bounds.Bounds.exact",
+                     "bounds.Bounds.up_to", "forms.Form.of", "spans.Span.empty"):
             file, name = path.rsplit(".", 1)
             self.assertIsInstance(vars(found_at(file)[0])[name], classmethod)
 
