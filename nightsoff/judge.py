@@ -2,6 +2,7 @@
 
 from nightsoff.cheapest import cheapest, low_prices
 from nightsoff.covers import ends_from, outside_wants
+from nightsoff.errors import NotPossible
 from nightsoff.settle import settle
 from nightsoff.tellings import told_numbers
 
@@ -34,6 +35,15 @@ def judge(house, told):
 
 def can_be_true(house, told):
     return judge(house, told).holds
+
+
+def true_numbers(house, told):
+    """Check that told numbers can be true and return them as a new list."""
+    numbers = told_numbers(house, told)
+    verdict = judge(house, numbers)
+    if not verdict.holds:
+        raise NotPossible(verdict.word, verdict.cover)
+    return numbers
 
 
 def excess_of(house, cover, told):

@@ -20,7 +20,12 @@ def set_by_set(house, told):
     """List the first set of persons that told more than its most, or None."""
     numbers = told_numbers(house, told)
     for number in range(1 << house.people):
-        members = [person for person in range(house.people) if number >> person & 1]
+        members = members_of(house, number)
         if sum([numbers[person] for person in members]) > most_of(house, members):
             return members
     return None
+
+
+def members_of(house, number):
+    """List the persons of the set that has this number (point 26)."""
+    return [person for person in range(house.people) if number >> person & 1]

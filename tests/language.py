@@ -10,7 +10,7 @@ import re
 NODES = """Module Expr ImportFrom alias ClassDef FunctionDef arguments arg Return Assign AugAssign
 For While If Raise Continue Break Pass Yield ListComp DictComp comprehension Call keyword Attribute
 Name Load Store Constant Subscript Slice BinOp BoolOp UnaryOp Compare IfExp List Tuple Dict Starred
-Add Sub Mult Mod Pow FloorDiv LShift RShift BitAnd BitOr BitXor And Or Not USub
+YieldFrom Add Sub Mult Mod Pow FloorDiv LShift RShift BitAnd BitOr BitXor And Or Not USub
 Eq NotEq Lt LtE Gt GtE In NotIn Is IsNot""".split()
 
 BUILTINS = """len range enumerate zip min max sum abs sorted int str bool list tuple dict set isinstance

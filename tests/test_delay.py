@@ -7,22 +7,29 @@ from nightsoff.alike import both_rows, either_rows, lets_all, parting
 from nightsoff.answers import answer, form_least, form_most
 from nightsoff.bounds import Bounds
 from nightsoff.cheapest import cheapest, cover_of, price_of
+from nightsoff.compare import can_be_watched, compare
 from nightsoff.covers import (
     Cover, bound_of, cover_fault, ends_from, most_stretches, outside_nights, stretches_of)
 from nightsoff.drafts import Draft
+from nightsoff.extra import extra_wants
 from nightsoff.firsts import first_choice, growth, most_of, room_left
 from nightsoff.forms import Form
+from nightsoff.helpers import helpers_needed
 from nightsoff.houses import House
 from nightsoff.judge import can_be_true, excess_of, greatest_excess, judge
+from nightsoff.latest import latest_coming, longest_rest
 from nightsoff.leavers import LeavingHouse, judge_leaving
+from nightsoff.nearest import nearest
 from nightsoff.orders import one_after_another, order_counts
 from nightsoff.plans import counts_of, plan_faults, walk_plan
+from nightsoff.rowcounts import row_count
 from nightsoff.rows import first_row, plain_row, row_allows, row_witness, turned
 from nightsoff.sets import refusing_set
 from nightsoff.settle import settle
 from nightsoff.slips import one_slip, two_slips
 from nightsoff.spans import Span
 from nightsoff.tellings import LIMIT, Telling
+from nightsoff.walks import count_tellings, nth_telling, rank_telling, walk_tellings
 from nightsoff.wants import Wants
 from nightsoff.worlds import find_world, group_least, group_most, has_world, raised
 
@@ -104,6 +111,30 @@ def half_told_questions(house):
     }
 
 
+def change_questions(house):
+    """Every function of least changes, by name."""
+    told = order_counts(house, list(range(house.people)))
+    return {
+        "can_be_watched": lambda: can_be_watched(house),
+        "helpers_needed": lambda: helpers_needed(house),
+        "longest_rest": lambda: longest_rest(house, told),
+        "latest_coming": lambda: latest_coming(house, told, 0),
+        "extra_wants": lambda: extra_wants(house, [number + 1 for number in told], 12),
+        "nearest": lambda: nearest(house, [LIMIT] + told[1:]),
+    }
+
+
+def walk_questions(house):
+    told = order_counts(house, [3, 2, 1, 0])
+    last = count_tellings(house) - 1
+    return {
+        "walk_tellings": lambda: list(walk_tellings(house)),
+        "count_tellings": lambda: count_tellings(house),
+        "nth_telling": lambda: nth_telling(house, last),
+        "rank_telling": lambda: rank_telling(house, told),
+    }
+
+
 def slip_questions(house):
     told = order_counts(house, list(range(house.people)))
     return {
@@ -159,6 +190,23 @@ class Delay(unittest.TestCase):
             for want in (2, 30):
                 house = watched_house(24, [1 + person // 3 * 4 for person in range(10)], want, rest)
                 self.quick(half_told_questions(house), want=want, rest=rest)
+                self.quick(change_questions(house), want=want, rest=rest)
+
+    def test_16_nights_and_8_people(self):
+        for rest in (0, 1, 2, 60):
+            for want in (2, 30):
+                house = watched_house(16, [1, 1, 1, 1, 4, 4, 6, 9], want, rest)
+                self.quick({"compare": lambda: compare(house, house)}, want=want, rest=rest)
+
+    def test_8_nights_and_4_people(self):
+        for rest in (0, 1, 2, 60):
+            for want in (1, 2, 30):
+                house = watched_house(8, [1, 1, 1, 2], want, rest)
+                self.quick(walk_questions(house), want=want, rest=rest)
+
+    def test_counts_of_rows_with_a_sum_of_24(self):
+        for row in ([24], [8, 8, 8], [12, 6, 3, 2, 1], [4] * 6, [1] * 24):
+            self.quick({"row_count": lambda: row_count(row, 6)}, row=row)
 
     def test_16_nights_and_6_people(self):
         for rest in (0, 1, 2, 60):

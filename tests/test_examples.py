@@ -102,6 +102,34 @@ raises TooSoon(2, 1, 3)
 >>> from nightsoff.alike import lets_all, parting, both_rows, either_rows
 >>> [lets_all([2, 2], [3, 1]), parting([3, 1], [2, 2]), both_rows([3, 3], [4, 1, 1]), either_rows([3, 3], [4, 1, 1])]
 [True, [2, 2], [4, 2], [3, 2, 1]]
+
+>>> from nightsoff.wants import Wants
+>>> from nightsoff.houses import House
+>>> from nightsoff.latest import longest_rest
+>>> rest, plan, cover = longest_rest(House.all_there(Wants([1, 1, 1, 1]), 3, rest=0), [2, 1, 1])
+>>> [rest, plan.rows, list(cover)]
+[2, ((0,), (1,), (2,), (0,)), [4]]
+
+>>> from nightsoff.wants import Wants
+>>> from nightsoff.houses import House
+>>> from nightsoff.extra import extra_wants
+>>> number, cover = extra_wants(House.all_there(Wants([1, 0, 1]), 2, rest=1), [2, 1], 2)
+>>> [number, list(cover)]
+[1, []]
+
+>>> from nightsoff.wants import Wants
+>>> from nightsoff.houses import House
+>>> from nightsoff.nearest import nearest
+>>> found = nearest(House(Wants([2, 1, 2]), [1, 1, 2], rest=1), [2, 1, 2])
+>>> [found.distance, found.numbers, list(found.cover)]
+[2, [2, 2, 1], [1, 3]]
+
+>>> from nightsoff.wants import Wants
+>>> from nightsoff.houses import House
+>>> from nightsoff.walks import count_tellings, nth_telling, rank_telling
+>>> house = House.all_there(Wants([1, 1, 1, 1]), 3, rest=2)
+>>> [count_tellings(house), nth_telling(house, 1).entries, rank_telling(house, [2, 1, 1])]
+[3, (1, 2, 1), 2]
 '''
 
 

@@ -50,6 +50,18 @@ FUNCTIONS = {
     "alike.parting": "(row, other)",
     "alike.both_rows": "(row, other)",
     "alike.either_rows": "(row, other)",
+    "compare.can_be_watched": "(house)",
+    "compare.compare": "(house, other)",
+    "helpers.helpers_needed": "(house)",
+    "latest.longest_rest": "(house, told)",
+    "latest.latest_coming": "(house, told, person)",
+    "extra.extra_wants": "(house, told, night)",
+    "nearest.nearest": "(house, told)",
+    "walks.walk_tellings": "(house)",
+    "walks.count_tellings": "(house)",
+    "walks.nth_telling": "(house, index)",
+    "walks.rank_telling": "(house, told)",
+    "rowcounts.row_count": "(row, people)",
 }
 
 CLASSES = {
@@ -108,6 +120,7 @@ CLASSES = {
         "__init__": "(self, run, rest)", "empty": "(rest)", "held": "(self, enter, leave, count)",
         "joined": "(self, other)", "row": "(self)",
     },
+    "nearest.Nearest": {},
 }
 
 
@@ -147,4 +160,5 @@ class Interface(unittest.TestCase):
             self.assertIsInstance(vars(found_at(file)[0])[name], classmethod)
 
     def test_walks_are_generators(self):
-        self.assertTrue(inspect.isgeneratorfunction(found_at("plans.walk_plan")[0]))
+        for path in ("plans.walk_plan", "walks.walk_tellings"):
+            self.assertTrue(inspect.isgeneratorfunction(found_at(path)[0]))
