@@ -11,10 +11,14 @@ def check_count(count, most):
         raise TooLong(count)
 
 
+def check_number(place, number, greatest):
+    if not 0 <= number <= greatest:
+        raise BadNumber(place, number)
+
+
 def check_numbers(numbers, greatest):
     for index, number in enumerate(numbers):
-        if not 0 <= number <= greatest:
-            raise BadNumber(index, number)
+        check_number(index, number, greatest)
 
 
 def check_not_negative(number):

@@ -10,7 +10,7 @@ import re
 NODES = """Module Expr ImportFrom alias ClassDef FunctionDef arguments arg Return Assign AugAssign
 For While If Raise Continue Break Pass Yield ListComp DictComp comprehension Call keyword Attribute
 Name Load Store Constant Subscript Slice BinOp BoolOp UnaryOp Compare IfExp List Tuple Dict Starred
-YieldFrom Add Sub Mult Mod Pow FloorDiv LShift RShift BitAnd BitOr BitXor And Or Not USub
+YieldFrom JoinedStr FormattedValue Add Sub Mult Mod Pow FloorDiv LShift RShift BitAnd BitOr BitXor And Or Not USub
 Eq NotEq Lt LtE Gt GtE In NotIn Is IsNot""".split()
 
 BUILTINS = """len range enumerate zip min max sum abs sorted int str bool list tuple dict set isinstance
@@ -131,8 +131,10 @@ def module_faults(tree):
         if not (plain or text or isinstance(node, (ast.ImportFrom, ast.ClassDef, ast.FunctionDef))):
             faults.append("L3: a statement at module level")
         if isinstance(node, ast.ImportFrom):
-            alike = node.level == 0 and (node.module or "").startswith("nightsoff.")
-            if seen_other or not alike or any(alias.name == "*" or alias.asname for alias in node.names):
+            names = [alias.name for alias in node.names]
+            own = node.level == 0 and (node.module or "").startswith("nightsoff.")
+            library = node.module == "math" and all(name in ("gcd", "lcm") for name in names)
+            if seen_other or not (own or library) or "*" in names or any(alias.asname for alias in node.names):
                 faults.append(f"L2: an import from {node.module}")
         elif not text:
             seen_other = True
@@ -152,9 +154,9 @@ def methods_in(text):
 
 
 def imports_in(text):
-    """List the module and the name of each import."""
+    """List the module and the name of each import from the package."""
     return [(node.module, alias.name) for node in ast.parse(text).body
-            if isinstance(node, ast.ImportFrom) for alias in node.names]
+            if isinstance(node, ast.ImportFrom) and node.module != "math" for alias in node.names]
 
 
 def defined_in(text):

@@ -5,6 +5,7 @@ import unittest
 
 from nightsoff.bounds import Bounds
 from nightsoff.errors import NightsError
+from nightsoff.firsts import first_choice
 from nightsoff.houses import House
 from nightsoff.wants import Wants
 
@@ -47,6 +48,12 @@ def some_houses(count, seed, nights=4, people=3, want=2, rest=3):
             comings = [max(1, coming - 2) for coming in comings]
         found.append(House(wants, comings, rest=numbers.between(0, rest)))
     return found
+
+
+def watched_houses(count, seed, nights=4, people=3, want=2, rest=3):
+    """Such houses with wants that their people can keep, and that keep them busy."""
+    return [house.changed(wants=Wants(first_choice(house, list(range(house.people)))))
+            for house in some_houses(count, seed, nights, people, want, rest)]
 
 
 def large_house(rest=2):

@@ -11,26 +11,33 @@ from nightsoff.compare import can_be_watched, compare
 from nightsoff.covers import (
     Cover, bound_of, cover_fault, ends_from, most_stretches, outside_nights, stretches_of)
 from nightsoff.drafts import Draft
+from nightsoff.evenness import evenest
+from nightsoff.exact import Exact
 from nightsoff.extra import extra_wants
 from nightsoff.firsts import first_choice, growth, most_of, room_left
 from nightsoff.forms import Form
 from nightsoff.helpers import helpers_needed
 from nightsoff.houses import House
 from nightsoff.judge import can_be_true, excess_of, greatest_excess, judge
+from nightsoff.lasting import lasting, numbers_after
 from nightsoff.latest import latest_coming, longest_rest
 from nightsoff.leavers import LeavingHouse, judge_leaving
 from nightsoff.nearest import nearest
 from nightsoff.orders import one_after_another, order_counts
 from nightsoff.plans import counts_of, plan_faults, walk_plan
+from nightsoff.rates import rate_of
+from nightsoff.routes import route
 from nightsoff.rowcounts import row_count
 from nightsoff.rows import first_row, plain_row, row_allows, row_witness, turned
 from nightsoff.sets import refusing_set
 from nightsoff.settle import settle
 from nightsoff.slips import one_slip, two_slips
 from nightsoff.spans import Span
+from nightsoff.surely import settled, tight_covers
 from nightsoff.tellings import LIMIT, Telling
 from nightsoff.walks import count_tellings, nth_telling, rank_telling, walk_tellings
 from nightsoff.wants import Wants
+from nightsoff.weeks import Week, kept_after
 from nightsoff.worlds import find_world, group_least, group_most, has_world, raised
 
 EVERYBODY = list(range(30))
@@ -135,6 +142,40 @@ def walk_questions(house):
     }
 
 
+def even_questions(house):
+    people = list(range(house.people))
+    return {
+        "evenest": lambda: evenest(house),
+        "route": lambda: route(house, order_counts(house, people), order_counts(house, people[::-1])),
+    }
+
+
+def settled_questions(house):
+    told = order_counts(house, list(range(house.people)))
+    cover = tight_covers(house, told)[-1]
+    return {
+        "tight_covers": lambda: tight_covers(house, told),
+        "settled": lambda: settled(house, told, cover),
+    }
+
+
+def week_questions(week, people):
+    return {
+        "kept_after": lambda: kept_after(week, people, 10 ** 18 - 1),
+        "rate_of": lambda: rate_of(week, people),
+    }
+
+
+def share_questions(week):
+    """Shares of six people with great bottoms, the first one just too great."""
+    shares = [rate_of(week, 1).share + Exact(1, 60)] + [Exact(1, bottom) for bottom in (59, 58, 57, 53)]
+    shares = shares + [Exact(abs(week.run)) - Exact.sum_of(shares)]
+    return {
+        "lasting": lambda: lasting(week, shares),
+        "numbers_after": lambda: numbers_after(shares, 10 ** 18),
+    }
+
+
 def slip_questions(house):
     told = order_counts(house, list(range(house.people)))
     return {
@@ -203,6 +244,25 @@ class Delay(unittest.TestCase):
             for want in (1, 2, 30):
                 house = watched_house(8, [1, 1, 1, 2], want, rest)
                 self.quick(walk_questions(house), want=want, rest=rest)
+
+    def test_12_nights_and_6_people(self):
+        for rest in (0, 1, 2, 60):
+            for want in (1, 2, 30):
+                house = watched_house(12, [1, 1, 1, 2, 5, 8], want, rest)
+                self.quick(even_questions(house), want=want, rest=rest)
+
+    def test_settled_nights(self):
+        for rest in (0, 1, 2, 60):
+            for want in (1, 2, 30):
+                house = watched_house(8, [1, 1, 1, 2], want, rest)
+                self.quick(settled_questions(house), want=want, rest=rest)
+
+    def test_weeks_of_14_nights(self):
+        for rest in range(5):
+            week = Week(Wants([30 - 2 * night for night in range(14)]), rest)
+            for people in (1, 7, 10 ** 6):
+                self.quick(week_questions(week, people), rest=rest, people=people)
+            self.quick(share_questions(week), rest=rest)
 
     def test_counts_of_rows_with_a_sum_of_24(self):
         for row in ([24], [8, 8, 8], [12, 6, 3, 2, 1], [4] * 6, [1] * 24):

@@ -130,6 +130,43 @@ raises TooSoon(2, 1, 3)
 >>> house = House.all_there(Wants([1, 1, 1, 1]), 3, rest=2)
 >>> [count_tellings(house), nth_telling(house, 1).entries, rank_telling(house, [2, 1, 1])]
 [3, (1, 2, 1), 2]
+
+>>> from nightsoff.wants import Wants
+>>> from nightsoff.houses import House
+>>> from nightsoff.evenness import evenest
+>>> even = evenest(House(Wants([1, 1, 1, 1, 1, 1]), [1, 1, 6], rest=1))
+>>> level = even.levels[0]
+>>> [even.telling.entries, len(even.levels), level[0], level[1], list(level[2])]
+[(3, 2, 1), 1, 2, [2], [1, 3, 5]]
+
+>>> from nightsoff.wants import Wants
+>>> from nightsoff.houses import House
+>>> from nightsoff.routes import route
+>>> route(House.all_there(Wants([1, 1, 1]), 3, rest=0), [3, 0, 0], [1, 1, 1])
+[(0, 1, [2, 1, 0]), (0, 2, [1, 1, 1])]
+
+>>> from nightsoff.wants import Wants
+>>> from nightsoff.houses import House
+>>> from nightsoff.surely import tight_covers, settled
+>>> house = House.all_there(Wants([1, 1, 1, 1]), 3, rest=2)
+>>> found = tight_covers(house, [2, 1, 1])
+>>> [len(found), list(found[1]), list(found[2]), settled(house, [2, 1, 1], found[2])]
+[4, [1, 4], [3], [(1, 1, True), (0, 1, True), (0, 1, True)]]
+
+>>> from nightsoff.wants import Wants
+>>> from nightsoff.weeks import Week, kept_after
+>>> week = Week(Wants([1, 0, 1]), 1)
+>>> [kept_after(week, 1, 1), kept_after(week, 1, 2), kept_after(week, 1, 10 ** 18)]
+[2, 3, 1000000000000000001]
+
+>>> from nightsoff.wants import Wants
+>>> from nightsoff.exact import Exact
+>>> from nightsoff.weeks import Week
+>>> from nightsoff.lasting import lasting, numbers_after
+>>> shares = [Exact(3, 2), Exact(1), Exact(1, 2)]
+>>> found = lasting(Week(Wants([1, 1, 1]), 2), shares)
+>>> [found.word, found.persons, found.weeks, numbers_after(shares, 2), numbers_after(shares, 3)]
+['many', [0], 2, [3, 2, 1], None]
 '''
 
 

@@ -62,6 +62,14 @@ FUNCTIONS = {
     "walks.nth_telling": "(house, index)",
     "walks.rank_telling": "(house, told)",
     "rowcounts.row_count": "(row, people)",
+    "evenness.evenest": "(house)",
+    "routes.route": "(house, told, wished)",
+    "surely.tight_covers": "(house, told)",
+    "surely.settled": "(house, told, cover)",
+    "weeks.kept_after": "(week, people, weeks)",
+    "rates.rate_of": "(week, people)",
+    "lasting.lasting": "(week, shares)",
+    "lasting.numbers_after": "(shares, weeks)",
 }
 
 CLASSES = {
@@ -121,6 +129,16 @@ CLASSES = {
         "joined": "(self, other)", "row": "(self)",
     },
     "nearest.Nearest": {},
+    "evenness.Evenest": {},
+    "exact.Exact": {
+        "__init__": "(self, top, bottom=1)", "sum_of": "(fractions)", "below": "(self, other)",
+        "same": "(self, other)", "text": "(self)", "__add__": None, "__sub__": None,
+        "__mul__": None, "__rmul__": None, "__neg__": None, "__abs__": None, "__pow__": None,
+        "__floordiv__": None,
+    },
+    "weeks.Week": {"__init__": "(self, run, rest)", "written_out": "(self, weeks, people)"},
+    "rates.Rate": {},
+    "lasting.Lasting": {"lasts": property},
 }
 
 
@@ -158,6 +176,9 @@ class Interface(unittest.TestCase):
                      "bounds.Bounds.up_to", "forms.Form.of", "spans.Span.empty"):
             file, name = path.rsplit(".", 1)
             self.assertIsInstance(vars(found_at(file)[0])[name], classmethod)
+
+    def test_static_methods(self):
+        self.assertIsInstance(vars(found_at("exact.Exact")[0])["sum_of"], staticmethod)
 
     def test_walks_are_generators(self):
         for path in ("plans.walk_plan", "walks.walk_tellings"):

@@ -14,6 +14,7 @@ WRONG = {
     "a percent sign": "def f():\n    return 'a%'\n",
     "a generator expression": "def f(xs):\n    return sum(x for x in xs)\n",
     "a foreign import": "from random import choice\n\n\ndef f(xs):\n    return choice(xs)\n",
+    "a foreign name of the library": "from math import sqrt\n\n\ndef f(x):\n    return sqrt(x)\n",
     "an unused import": "from nightsoff.wants import Wants\n",
     "a late import": "LOW = 1\nfrom nightsoff.wants import Wants\nTOP = Wants\n",
     "a builtin's name": "def f(sum):\n    return sum\n",
