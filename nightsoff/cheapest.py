@@ -21,7 +21,7 @@ def cheapest(house, prices):
 
 def cheapest_for(house, wants, prices):
     """Do the same with other wants of the nights, which may be any numbers."""
-    sums = _sums_by_coming(house, prices)
+    sums = sums_by_coming(house, prices)
     least, stays = _least_prices(house, wants, sums)
     # Who comes after the last night has a coming behind all ends.
     never = sums[house.nights + 1][0] - sums[house.nights][0]
@@ -50,6 +50,11 @@ def high_prices(house, highs):
     return [[min(high, count) for count in counts] for high in highs]
 
 
+def keep_least(prices, key, price):
+    """Put the price under the key, unless a lesser one stands there."""
+    prices[key] = min(prices.get(key, price), price)
+
+
 def _check_prices(house, prices):
     if len(prices) != house.people:
         raise WrongLength(len(prices), house.people)
@@ -59,7 +64,7 @@ def _check_prices(house, prices):
             raise WrongLength(len(row), wanted)
 
 
-def _sums_by_coming(house, prices):
+def sums_by_coming(house, prices):
     """Add up prices: `sums[k][w]` is what the persons whose coming is at most
     k cost together for w ends, for k from 0 to n + 1.
     """

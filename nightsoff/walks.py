@@ -5,7 +5,7 @@ from nightsoff.compare import can_be_watched
 from nightsoff.errors import BadNumber
 from nightsoff.judge import true_numbers
 from nightsoff.tellings import Telling
-from nightsoff.worlds import group_price
+from nightsoff.worlds import group_range
 
 
 def walk_tellings(house):
@@ -51,7 +51,5 @@ def _next_numbers(house, start):
     if left == 1:
         return [house.whole - sum(start)]
     bounds = Bounds(start + [0] * left, start + [house.nights] * left)
-    most, _ = group_price(house, bounds, [person])
-    others = [other for other in range(house.people) if other != person]
-    most_of_others, _ = group_price(house, bounds, others)
-    return list(range(house.whole - most_of_others, most + 1))
+    least, most = group_range(house, bounds, [person])
+    return list(range(least, most + 1))

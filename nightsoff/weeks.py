@@ -1,5 +1,6 @@
 """Weeks that repeat, and what people keep in many of them (points 56 and 57)."""
 
+from nightsoff.cheapest import keep_least
 from nightsoff.checks import check_count, check_number
 from nightsoff.errors import BadRest, EmptyWeek
 from nightsoff.houses import House
@@ -63,9 +64,9 @@ def _ways_of(week, people):
     for want in week.run:
         row = {}
         for place, cost in ways[0].items():
-            _keep_least(row, place, cost + want)
+            keep_least(row, place, cost + want)
         for place, cost in ways[week.rest].items():
-            _keep_least(row, place, cost + people)
+            keep_least(row, place, cost + people)
         ways = [row] + ways[:-1]
     return ways
 
@@ -75,9 +76,5 @@ def _row_after(row, ways):
     found = {}
     for middle, cost in row.items():
         for place, more in ways[middle].items():
-            _keep_least(found, place, cost + more)
+            keep_least(found, place, cost + more)
     return found
-
-
-def _keep_least(row, place, cost):
-    row[place] = min(row.get(place, cost), cost)

@@ -10,7 +10,7 @@ from nightsoff.orders import check_order
 def has_world(house, bounds):
     """Say whether some numbers in the bounds can be true."""
     check_bounds(house, bounds)
-    return _against(house, bounds) is None
+    return reason_against(house, bounds) is None
 
 
 def find_world(house, bounds):
@@ -49,8 +49,22 @@ def check_bounds(house, bounds):
         raise WrongLength(len(bounds), house.people)
 
 
+def reason_against(house, bounds):
+    """Return the first reason against a world, its person and its cover, or None."""
+    crossed = bounds.crossed()
+    if crossed:
+        return ("crossed", crossed[0], None)
+    price, cover = cheapest(house, low_prices(house, bounds.lows))
+    if price < 0:
+        return ("low", None, cover)
+    price, cover = cheapest(house, high_prices(house, bounds.highs))
+    if price < house.whole:
+        return ("high", None, cover)
+    return None
+
+
 def check_world(house, bounds):
-    reason = _against(house, bounds)
+    reason = reason_against(house, bounds)
     if reason is not None:
         raise NoWorld(reason[0], reason[1], reason[2])
 
@@ -61,6 +75,13 @@ def group_price(house, bounds, people):
     highs = high_prices(house, bounds.highs)
     return cheapest(house, [highs[person] if person in people else lows[person]
                             for person in range(house.people)])
+
+
+def group_range(house, bounds, people):
+    """Return the least and the most of a group where there is a world."""
+    most, _ = group_price(house, bounds, people)
+    most_of_others, _ = group_price(house, bounds, _others(house, people))
+    return (house.whole - most_of_others, most)
 
 
 def raise_in_order(house, lows, highs, order):
@@ -82,20 +103,6 @@ def _greatest_kept(house, numbers, person):
     prices[person] = list(range(most_stretches(house) + 1))
     price, _ = cheapest(house, prices)
     return price
-
-
-def _against(house, bounds):
-    """Return the first reason against a world, its person and its cover, or None."""
-    crossed = bounds.crossed()
-    if crossed:
-        return ("crossed", crossed[0], None)
-    price, cover = cheapest(house, low_prices(house, bounds.lows))
-    if price < 0:
-        return ("low", None, cover)
-    price, cover = cheapest(house, high_prices(house, bounds.highs))
-    if price < house.whole:
-        return ("high", None, cover)
-    return None
 
 
 def _others(house, people):

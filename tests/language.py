@@ -10,11 +10,11 @@ import re
 NODES = """Module Expr ImportFrom alias ClassDef FunctionDef arguments arg Return Assign AugAssign
 For While If Raise Continue Break Pass Yield ListComp DictComp comprehension Call keyword Attribute
 Name Load Store Constant Subscript Slice BinOp BoolOp UnaryOp Compare IfExp List Tuple Dict Starred
-YieldFrom JoinedStr FormattedValue Add Sub Mult Mod Pow FloorDiv LShift RShift BitAnd BitOr BitXor And Or Not USub
+YieldFrom Try ExceptHandler JoinedStr FormattedValue Add Sub Mult Mod Pow FloorDiv LShift RShift BitAnd BitOr BitXor And Or Not USub
 Eq NotEq Lt LtE Gt GtE In NotIn Is IsNot""".split()
 
 BUILTINS = """len range enumerate zip min max sum abs sorted int str bool list tuple dict set isinstance
-repr any all divmod super property classmethod staticmethod ValueError NotImplemented iter""".split()
+repr any all divmod ord super property classmethod staticmethod ValueError NotImplemented iter""".split()
 
 SPECIAL = """init eq repr str len call iter lt le gt ge ne add sub mul floordiv mod pow and or xor lshift
 rshift radd rsub rmul neg pos invert abs bool contains getitem setitem""".split()
@@ -63,6 +63,9 @@ def node_faults(tree):
         if isinstance(node, ast.Compare) and any(isinstance(op, (ast.Is, ast.IsNot)) for op in node.ops):
             if not all(isinstance(side, ast.Constant) for side in node.comparators):
                 faults.append("L20: is")
+        if isinstance(node, ast.ExceptHandler):
+            if not isinstance(node.type, ast.Name) or hasattr(builtins, node.type.id):
+                faults.append("L19: a foreign error is caught")
         if isinstance(node, ast.FunctionDef) and node.end_lineno - node.lineno + 1 > 40:
             faults.append(f"L10: {node.name} is too long")
     return faults

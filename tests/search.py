@@ -56,6 +56,17 @@ def watched_houses(count, seed, nights=4, people=3, want=2, rest=3):
             for house in some_houses(count, seed, nights, people, want, rest)]
 
 
+def late_houses():
+    """Houses that can be watched, into which people come on very different nights."""
+    houses = []
+    for wants in ([1, 1, 1, 1, 1], [2, 1, 0, 2, 1], [1, 3, 1, 2]):
+        for comings in itertools.product((1, 2, 4), (1, 3, 5), (1, 4, 5)):
+            for rest in (0, 1):
+                house = House(Wants(wants), comings, rest=rest)
+                houses.append(house.changed(wants=Wants(first_choice(house, [0, 1, 2]))))
+    return houses
+
+
 def large_house(rest=2):
     """A house of 60 nights and 30 people."""
     wants = Wants([(7 * night) % 13 for night in range(60)])

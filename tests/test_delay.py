@@ -5,11 +5,13 @@ import unittest
 
 from nightsoff.alike import both_rows, either_rows, lets_all, parting
 from nightsoff.answers import answer, form_least, form_most
+from nightsoff.books import Book
 from nightsoff.bounds import Bounds
 from nightsoff.cheapest import cheapest, cover_of, price_of
 from nightsoff.compare import can_be_watched, compare
 from nightsoff.covers import (
     Cover, bound_of, cover_fault, ends_from, most_stretches, outside_nights, stretches_of)
+from nightsoff.desks import Desk
 from nightsoff.drafts import Draft
 from nightsoff.evenness import evenest
 from nightsoff.exact import Exact
@@ -25,16 +27,21 @@ from nightsoff.leavers import LeavingHouse, judge_leaving
 from nightsoff.nearest import nearest
 from nightsoff.orders import one_after_another, order_counts
 from nightsoff.plans import counts_of, plan_faults, walk_plan
+from nightsoff.printer import print_script
 from nightsoff.rates import rate_of
+from nightsoff.reader import read_script
 from nightsoff.routes import route
 from nightsoff.rowcounts import row_count
 from nightsoff.rows import first_row, plain_row, row_allows, row_witness, turned
+from nightsoff.runner import Runner
 from nightsoff.sets import refusing_set
 from nightsoff.settle import settle
 from nightsoff.slips import one_slip, two_slips
 from nightsoff.spans import Span
 from nightsoff.surely import settled, tight_covers
 from nightsoff.tellings import LIMIT, Telling
+from nightsoff.tables import table_lines
+from nightsoff.tonight import after_tonight, may_watch, must_watch, sparing_set, thresholds, tonight_fault
 from nightsoff.walks import count_tellings, nth_telling, rank_telling, walk_tellings
 from nightsoff.wants import Wants
 from nightsoff.weeks import Week, kept_after
@@ -176,6 +183,80 @@ def share_questions(week):
     }
 
 
+def tonight_questions(house):
+    told = order_counts(house, list(range(house.people)))
+    people = sparing_set(house, told)
+    return {
+        "after_tonight": lambda: after_tonight(house, told, people),
+        "thresholds": lambda: thresholds(house, told),
+        "tonight_fault": lambda: tonight_fault(house, told, people),
+        "must_watch": lambda: must_watch(house, told),
+        "may_watch": lambda: may_watch(house, told),
+        "sparing_set": lambda: sparing_set(house, told),
+    }
+
+
+def lead(desk):
+    """Lead the desk to its end, asking everything on each night, and back again."""
+    while desk.now <= desk.house_now().nights:
+        desk.tonight(), desk.outlook(), desk.free_tonight(), desk.ahead(), desk.still_kept()
+        desk.watch(desk.choose())
+    while desk.done > 0:
+        desk.undo()
+    return desk.kept
+
+
+def facts(house):
+    """The deeds of a book that tell the house, with bounds that are wide."""
+    told = order_counts(house, list(range(house.people)))
+    people = [("person", f"p{person}", coming) for person, coming in enumerate(house.comings)]
+    numbers = [("told", f"p{person}", number // 2, LIMIT) for person, number in enumerate(told)]
+    return [("nights", house.wants.numbers), ("rest", house.rest), *people, *numbers]
+
+
+def full_book(house):
+    """A book of that house with 200 records."""
+    book = Book()
+    book.all_of(facts(house))
+    while book.done < 200:
+        book.do(("forget", f"p{book.done % house.people}"))
+    return book
+
+
+def book_questions(house):
+    book = full_book(house)
+    names = book.names()
+    deeds = book.deeds()
+    return {
+        "Book": lambda: Book().all_of(deeds),
+        "undo": lambda: [book.undo() for _ in range(200)] + [book.redo() for _ in range(200)],
+        "house": lambda: [book.told_house(), book.told_bounds(), book.names(), book.records(), book.state_word()],
+        "spread": lambda: [book.spread(name) for name in names],
+        "ask": lambda: book.ask(20, *names[::2]),
+    }
+
+
+def long_scripts(house):
+    """Scripts of 200 lines: one of each statement that asks again and again, and one of all."""
+    start = facts(house)
+    group = ("p0", "p3", "p4")
+    asks = [("ask", "world"), ("ask", "row"), ("ask", "plan"), ("ask", "least", group), ("ask", "most", group),
+            ("ask", "atleast", 20, group), ("show", "house"), ("show", "told")]
+    desk = [("desk",), ("ask", "tonight")] + [("choose",)] * house.nights + [("undo",)] * house.nights + [("close",)]
+    scripts = [start + [ask] * (200 - len(start)) for ask in asks]
+    scripts.append((start + [("begin",)] + desk + [("redo",), ("end",)] + asks * 20)[:200])
+    return scripts
+
+
+def script_questions(house):
+    questions = {"table_lines": lambda: table_lines(["a", "b"], [["x" * count, "y"] for count in range(200)], "cr")}
+    for index, statements in enumerate(long_scripts(house)):
+        text = print_script(statements)
+        questions[f"read {index}"] = lambda text=text: read_script(text)
+        questions[f"run {index}"] = lambda text=text: Runner().run(text)
+    return questions
+
+
 def slip_questions(house):
     told = order_counts(house, list(range(house.people)))
     return {
@@ -212,12 +293,12 @@ def span_questions(run, rest):
 
 
 class Delay(unittest.TestCase):
-    def quick(self, questions, **said):
+    def quick(self, questions, most=1, **said):
         for name, ask in questions.items():
             with self.subTest(name, **said):
                 before = time.process_time()
                 ask()
-                self.assertLess(time.process_time() - before, 1)
+                self.assertLess(time.process_time() - before, most)
 
     def test_60_nights_and_30_people(self):
         for rest in (0, 1, 2, 7, 60):
@@ -232,6 +313,20 @@ class Delay(unittest.TestCase):
                 house = watched_house(24, [1 + person // 3 * 4 for person in range(10)], want, rest)
                 self.quick(half_told_questions(house), want=want, rest=rest)
                 self.quick(change_questions(house), want=want, rest=rest)
+
+    def test_tonight_desks_and_books(self):
+        for rest in (0, 1, 2, 5, 24, 60):
+            for want in (2, 30):
+                house = watched_house(24, [1] * 6 + [4, 9, 9, 20], want, rest)
+                told = order_counts(house, list(range(10)))
+                self.quick(tonight_questions(house), want=want, rest=rest)
+                self.quick({"Desk": lambda: lead(Desk(house, told))}, want=want, rest=rest)
+                self.quick(book_questions(house), want=want, rest=rest)
+
+    def test_scripts_of_200_lines(self):
+        for rest in (0, 2):
+            house = watched_house(24, [1] * 6 + [4, 9, 9, 20], 30, rest)
+            self.quick(script_questions(house), rest=rest, most=5)
 
     def test_16_nights_and_8_people(self):
         for rest in (0, 1, 2, 60):

@@ -1,14 +1,11 @@
-import itertools
-
 from nightsoff.covers import Cover, bound_of, ends_from, most_stretches
 from nightsoff.errors import NotWatched
 from nightsoff.evenness import Evenest, evenest
-from nightsoff.firsts import first_choice
 from nightsoff.houses import House
 from nightsoff.tellings import Telling
 from nightsoff.wants import Wants
 from nightsoff.walks import walk_tellings
-from tests.search import Case, all_counts, plain_cheapest, some_houses, watched_houses
+from tests.search import Case, all_counts, late_houses, plain_cheapest, some_houses, watched_houses
 
 
 def raised_evenly(house, kept):
@@ -20,17 +17,6 @@ def raised_evenly(house, kept):
         _, person = min((numbers[person], person) for person, trial in enumerate(trials) if trial in kept)
         numbers = trials[person]
     return numbers
-
-
-def late_houses():
-    """Houses that can be watched, into which people come on very different nights."""
-    houses = []
-    for wants in ([1, 1, 1, 1, 1], [2, 1, 0, 2, 1], [1, 2, 1, 1]):
-        for comings in itertools.product((1, 2, 4), (1, 3, 5), (1, 4, 5)):
-            for rest in (0, 1):
-                house = House(Wants(wants), comings, rest=rest)
-                houses.append(house.changed(wants=Wants(first_choice(house, [0, 1, 2]))))
-    return houses
 
 
 def level_prices(house, entries, height):

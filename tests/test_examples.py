@@ -4,7 +4,7 @@ import unittest
 
 from nightsoff import errors
 
-EXAMPLES = '''
+EXAMPLES = r'''
 >>> from nightsoff.wants import Wants
 >>> run = Wants([2, 1]) + 2 * Wants.of(0, 3)
 >>> [run.numbers, abs(run), run[4], (-run << 4).numbers, (run >> 1).numbers]
@@ -167,6 +167,54 @@ raises TooSoon(2, 1, 3)
 >>> found = lasting(Week(Wants([1, 1, 1]), 2), shares)
 >>> [found.word, found.persons, found.weeks, numbers_after(shares, 2), numbers_after(shares, 3)]
 ['many', [0], 2, [3, 2, 1], None]
+
+>>> from nightsoff.wants import Wants
+>>> from nightsoff.houses import House
+>>> from nightsoff.tonight import thresholds, tonight_fault, must_watch, sparing_set
+>>> house = House.all_there(Wants([1, 1, 1, 1]), 3, rest=2)
+>>> [thresholds(house, [1, 2, 1]), tonight_fault(house, [1, 2, 1], [0]), must_watch(house, [1, 2, 1]), sparing_set(house, [1, 2, 1])]
+[[1, 1], ('level', 1, 0, 1), [1], [1]]
+
+>>> from nightsoff.wants import Wants
+>>> from nightsoff.houses import House
+>>> from nightsoff.desks import Desk
+>>> desk = Desk(House.all_there(Wants([1, 1, 1, 1]), 3, rest=2), [1, 2, 1])
+>>> people = desk.choose()
+>>> desk.watch(people)
+>>> [people, desk.now, desk.left, desk.free_tonight(), desk.outlook().rows]
+[[1], 2, (1, 1, 1), [0, 2], ((1,), (0,), (2,), (1,))]
+
+>>> from nightsoff.wants import Wants
+>>> from nightsoff.houses import House
+>>> from nightsoff.desks import Desk
+>>> desk = Desk(House.all_there(Wants([1, 1, 1, 1]), 3, rest=2), [1, 2, 1])
+>>> desk.watch([0])
+raises NotRight(1)
+
+>>> from nightsoff.books import Book
+>>> book = Book()
+>>> book.set_nights(1, 1, 1, 1)
+>>> book.all_of([("rest", 2), ("person", "cid", 1), ("person", "ann", 1), ("person", "bob", 1)])
+>>> book.tell(ann=2)
+>>> [book.names(), book.spread("bob"), book.ask(2, "bob", "cid").word, book.done]
+[['ann', 'bob', 'cid'], (1, 1), 'yes', 6]
+
+>>> from nightsoff.reader import read_line
+>>> read_line("told ann 1 to 3")
+('told', 'ann', 1, 3)
+
+>>> from nightsoff.reader import read_line
+>>> read_line("told ann 1 to", 7)
+raises BadLine(7, 5, 'short')
+
+>>> from nightsoff.tables import table_lines
+>>> table_lines(["night", "want"], [["1", "2"], ["10", "0"]], "rl")
+['night  want', '-----  ----', '    1  2', '   10  0']
+
+>>> from nightsoff.runner import Runner
+>>> runner = Runner()
+>>> runner.run("nights 2 1 2\nperson ann\nperson bob\nperson cid from 2\ntold ann 2\nask world\nask least bob\nask atleast 4 ann bob")
+['6: world 2 2 1', '7: 2', '8: yes']
 '''
 
 

@@ -70,6 +70,17 @@ FUNCTIONS = {
     "rates.rate_of": "(week, people)",
     "lasting.lasting": "(week, shares)",
     "lasting.numbers_after": "(shares, weeks)",
+    "tonight.after_tonight": "(house, told, people)",
+    "tonight.thresholds": "(house, told)",
+    "tonight.tonight_fault": "(house, told, people)",
+    "tonight.must_watch": "(house, told)",
+    "tonight.may_watch": "(house, told)",
+    "tonight.sparing_set": "(house, told)",
+    "reader.read_line": "(line, number=1)",
+    "reader.read_script": "(text)",
+    "printer.print_statement": "(statement)",
+    "printer.print_script": "(statements)",
+    "tables.table_lines": "(headings, rows, sides)",
 }
 
 CLASSES = {
@@ -139,6 +150,24 @@ CLASSES = {
     "weeks.Week": {"__init__": "(self, run, rest)", "written_out": "(self, weeks, people)"},
     "rates.Rate": {},
     "lasting.Lasting": {"lasts": property},
+    "history.History": {
+        "__init__": "(self)", "done": property, "undone": property, "deeds": "(self)",
+        "undo": "(self)", "redo": "(self)", "all_of": "(self, deeds)",
+    },
+    "desks.Desk": {
+        "__init__": "(self, house, told)", "now": property, "kept": property, "left": property,
+        "mode": property, "switch": "(self, word)", "still_kept": "(self)",
+        "free_tonight": "(self)", "choose": "(self)", "ahead": "(self)", "house_now": "(self)",
+        "told_now": "(self)", "rows_so_far": "(self)", "outlook": "(self)", "tonight": "(self)",
+        "do": "(self, deed)", "watch": "(self, people)",
+    },
+    "books.Book": {
+        "__init__": "(self)", "do": "(self, deed)", "set_nights": "(self, *numbers)",
+        "add_person": "(self, name, coming=1)", "tell": "(self, **numbers)", "names": "(self)",
+        "records": "(self)", "told_house": "(self)", "told_bounds": "(self)",
+        "state_word": "(self)", "spread": "(self, name)", "ask": "(self, number, *names)",
+    },
+    "runner.Runner": {"__init__": "(self)", "run": "(self, text)"},
 }
 
 
@@ -179,6 +208,11 @@ class Interface(unittest.TestCase):
 
     def test_static_methods(self):
         self.assertIsInstance(vars(found_at("exact.Exact")[0])["sum_of"], staticmethod)
+
+    def test_base_classes(self):
+        history, _ = found_at("history.History")
+        for path in ("desks.Desk", "books.Book"):
+            self.assertEqual(found_at(path)[0].__bases__, (history,))
 
     def test_walks_are_generators(self):
         for path in ("plans.walk_plan", "walks.walk_tellings"):

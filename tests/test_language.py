@@ -31,6 +31,8 @@ WRONG = {
     "a long file": "\n" * 400,
     "an unknown special method": "class A:\n    def __hash__(self):\n        return 1\n",
     "a loop at module level": "for _ in ():\n    pass\n",
+    "a foreign error": "def f(xs):\n    try:\n        return xs[0]\n    except KeyError:\n        return 1\n",
+    "any error": "def f(xs):\n    try:\n        return xs[0]\n    except:\n        return 1\n",
     "is": "def f(x, y):\n    return x is y\n",
 }
 
